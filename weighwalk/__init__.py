@@ -1,0 +1,1 @@
+"""Weighwalk: machines whose ways have weights."""
