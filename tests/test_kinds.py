@@ -2,12 +2,12 @@ import copy
 import unittest
 from fractions import Fraction
 
+from reckoned import GREATEST, kinds, same
 from weighwalk.errors import NoKind, NoText, NoWeight, WrongKind
 from weighwalk.kinds import Costs, Field, Fractions, Kind, Picking, Residues, Truths, kind_of
 from weighwalk.ratios import fraction
 
 THIRTY = 10 ** 30 - 1
-GREATEST = 999983
 SOME_FRACTIONS = ((0, 1), (1, 1), (-1, 1), (1, 2), (-1, 2), (2, 3), (-7, 3), (5, 4), (THIRTY, 2), (-1, THIRTY))
 SOME_COSTS = (None, 0, 1, -1, 7, -12, THIRTY, -THIRTY)
 # Texts that write no weight of any kind.
@@ -21,16 +21,6 @@ NO_TEXTS = (None, True, False, 0, 1, 1.5, (1, 2), ("1",), ["1"], [], {}, {"1": 1
 class AlwaysEqual:
     def __eq__(self, other):
         return True
-
-
-def kinds():
-    return [Fractions(), Residues(2), Residues(7), Residues(GREATEST), Costs(), Truths()]
-
-
-def same(test, one, other):
-    # 1 == True in Python, so the class is asked too.
-    test.assertEqual(one, other)
-    test.assertIs(type(one), type(other))
 
 
 def refused(test, kind, texts):

@@ -30,6 +30,9 @@ WORDS_OUT = (
     r"|NamedTuple|TypedDict|TYPE_CHECKING|abstractmethod)\b|dataclass|overload|contextmanager"
 )
 
+WALKED = ("zip", "enumerate", "reversed", "range")
+WALKED_BY = WALKED + ("list", "tuple", "dict", "sorted", "sum", "any", "all", "min", "max")
+
 
 def sources():
     return [(path.name, path.read_text(encoding="utf-8")) for path in sorted(PACKAGE.glob("*.py"))]
@@ -118,3 +121,69 @@ class Form(unittest.TestCase):
             if isinstance(node, ast.Compare) and isinstance(node.ops[0], (ast.Is, ast.IsNot)):
                 self.assertIsInstance(node.comparators[0], ast.Constant, (name, node.lineno))
                 self.assertIn(node.comparators[0].value, (None, True, False), (name, node.lineno))
+
+    def test_no_parameter_and_no_local_is_called_like_an_import_or_a_class(self):
+        for name, source in sources():
+            tree = ast.parse(source)
+            tops = [alias.name for row in tree.body if isinstance(row, ast.ImportFrom) for alias in row.names]
+            tops = tops + [row.name for row in tree.body if isinstance(row, (ast.FunctionDef, ast.ClassDef))]
+            tops = tops + [row.targets[0].id for row in tree.body if isinstance(row, ast.Assign)]
+            self.assertEqual(len(set(tops)), len(tops), name)
+            for function in [node for node in ast.walk(tree) if isinstance(node, ast.FunctionDef)]:
+                for node in ast.walk(function):
+                    if isinstance(node, ast.arg):
+                        self.assertNotIn(node.arg, tops, (name, node.lineno))
+                    if isinstance(node, ast.Name) and isinstance(node.ctx, ast.Store):
+                        self.assertNotIn(node.id, tops, (name, node.lineno))
+
+    def test_each_helper_stands_once_in_the_package_and_is_drawn_from_there(self):
+        found = {}
+        drawn = {}
+        for name, source in sources():
+            for row in ast.parse(source).body:
+                if isinstance(row, (ast.FunctionDef, ast.ClassDef)):
+                    self.assertNotIn(row.name, found, name)
+                    found[row.name] = name
+                if isinstance(row, ast.Assign):
+                    found[row.targets[0].id] = name
+        for name, node in nodes():
+            if isinstance(node, ast.ImportFrom):
+                drawn.setdefault(name, []).append(node.module.partition(".")[2] + ".py")
+                for alias in node.names:
+                    self.assertEqual(found[alias.name], drawn[name][-1], name)
+                    self.assertIsNone(alias.asname, name)
+        # What draws from nothing that is left is taken away; in a ring nothing could be.
+        left = [name for name, source in sources()]
+        while left:
+            last = [name for name in left if not set(drawn.get(name, [])) & set(left)]
+            self.assertNotEqual(last, [], left)
+            left = [name for name in left if name not in last]
+
+    def test_walks_and_sets_are_used_on_the_spot(self):
+        for name, source in sources():
+            tree = ast.parse(source)
+            allowed = []
+            for node in ast.walk(tree):
+                if isinstance(node, (ast.For, ast.comprehension)):
+                    allowed.append(node.iter)
+                if isinstance(node, ast.Call) and isinstance(node.func, ast.Name) and node.func.id in WALKED_BY:
+                    allowed.extend(node.args)
+                if isinstance(node, ast.Call) and isinstance(node.func, ast.Name) and node.func.id in ("len", "sorted"):
+                    allowed.extend([arg for arg in node.args if self.is_called(arg, ("set",))])
+            for node in ast.walk(tree):
+                if self.is_called(node, WALKED + ("set", "frozenset")):
+                    self.assertIn(node, allowed, (name, node.lineno))
+
+    def is_called(self, node, names):
+        return isinstance(node, ast.Call) and isinstance(node.func, ast.Name) and node.func.id in names
+
+    def test_numbers_and_texts(self):
+        for name, node in nodes():
+            if isinstance(node, ast.BinOp) and isinstance(node.op, ast.Pow):
+                self.assertIsInstance(node.right, ast.Constant, (name, node.lineno))
+            if isinstance(node, ast.Constant) and isinstance(node.value, str):
+                self.assertNotIn("%", node.value, (name, node.lineno))
+            if isinstance(node, ast.comprehension):
+                self.assertLessEqual(len(node.ifs), 1, name)
+            if isinstance(node, ast.ListComp):
+                self.assertEqual(len(node.generators), 1, (name, node.lineno))
