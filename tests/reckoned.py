@@ -1,9 +1,10 @@
 """What the tests reckon for themselves, without the program's own sums, and machines to try it with."""
 
+import functools
 import itertools
 from fractions import Fraction
 
-from weighwalk.kinds import Costs, Fractions, Residues, Truths
+from weighwalk.kinds import Costs, Fractions, Residues, Truths, kind_of
 
 GREATEST = 999983
 NO_TEXTS = (None, True, False, 0, 1, 1.5, (), ("a",), ("a", "b"), [], ["a"], {}, {"a": 1}, b"a", object())
@@ -164,3 +165,212 @@ def dotted(kind, row, column):
 
 def multiplied(kind, first, second):
     return tuple([tuple([dotted(kind, row, column) for column in zip(*second)]) for row in first])
+
+
+def put_together(kind, weights, rows, width):
+    return tuple([
+        total(kind, [product(kind, [x, row[place]]) for x, row in zip(weights, rows, strict=True)])
+        for place in range(width)
+    ])
+
+
+def row_put(kind, row, table):
+    return multiplied(kind, (row,), table)[0]
+
+
+def column_put(kind, table, column):
+    return tuple([dotted(kind, row, column) for row in table])
+
+
+def corner_to_corner(kind, size):
+    return tuple([tuple([one(kind) if r == q else nought(kind) for r in range(size)]) for q in range(size)])
+
+
+@functools.cache
+def weighed_by(name, machine, most):
+    kind = kind_of(name)
+    letters, start, tables, ends = machine
+    rows = {"": start}
+    for word in all_words(letters, most)[1:]:
+        rows[word] = row_put(kind, rows[word[:-1]], tables[letters.index(word[-1])])
+    return {word: dotted(kind, row, ends) for word, row in rows.items()}
+
+
+def weighed(kind, machine, most):
+    # What all words of so many letters weigh, each row of the walk made of a shorter one's;
+    # kept, since many tests ask for the same.
+    return dict(weighed_by(kind.told(), machine, most))
+
+
+class Basis:
+    def __init__(self, kind):
+        self.kind = kind
+        self.rows = []
+
+    def number(self, x):
+        return Fraction(x[0], x[1]) if isinstance(self.kind, Fractions) else x
+
+    def lowered(self, row):
+        return row if isinstance(self.kind, Fractions) else [x % self.kind.prime for x in row]
+
+    def inverse(self, x):
+        return 1 / x if isinstance(self.kind, Fractions) else pow(x, -1, self.kind.prime)
+
+    def grows(self, row):
+        rest = [self.number(x) for x in row]
+        for place, other in self.rows:
+            by = rest[place]
+            rest = self.lowered([x - by * y for x, y in zip(rest, other, strict=True)])
+        for place, x in enumerate(rest):
+            if x != 0:
+                self.rows.append((place, self.lowered([self.inverse(x) * y for y in rest])))
+                return True
+        return False
+
+
+def free_of(kind, rows):
+    basis = Basis(kind)
+    return [basis.grows(row) for row in rows]
+
+
+def thinned(kind, letters, size, seed=1):
+    # Most steps, and some starts and ends, are taken away.
+    source = numbers(seed + 1000)
+    letters, start, tables, ends = drawn(kind, letters, size, seed)
+
+    def thin(row, share):
+        return tuple([x if next(source) % 6 < share else nought(kind) for x in row])
+
+    return (letters, thin(start, 3), tuple([tuple([thin(row, 2) for row in table]) for table in tables]), thin(ends, 3))
+
+
+def put_in_order(machine, order):
+    letters, start, tables, ends = machine
+
+    def ordered(row):
+        return tuple([row[room] for room in order])
+
+    tables = tuple([ordered([ordered(row) for row in table]) for table in tables])
+    return (letters, ordered(start), tables, ordered(ends))
+
+
+def mixed(kind, machine, room, other, by):
+    # Another machine that weighs alike: the one room has, beside its own, so many times what the other has.
+    letters, start, tables, ends = machine
+    minus = product(kind, [by, (-1, 1) if isinstance(kind, Fractions) else kind.prime - 1])
+
+    def less(row):
+        row = list(row)
+        row[other] = total(kind, [row[other], product(kind, [minus, row[room]])])
+        return tuple(row)
+
+    def more(table):
+        rows = list(table)
+        rows[room] = put_together(kind, [one(kind), by], [rows[room], rows[other]], len(rows))
+        return tuple(rows)
+
+    ends = list(ends)
+    ends[room] = total(kind, [ends[room], product(kind, [by, ends[other]])])
+    return (letters, less(start), tuple([more([less(row) for row in table]) for table in tables]), tuple(ends))
+
+
+def with_room(machine, start, into, outof, end):
+    # A room more, behind the others: into it lead steps of so much, out of it likewise.
+    letters, starts, tables, ends = machine
+    size = len(starts)
+    grown = [tuple([row + (into,) for row in table]) + ((outof,) * (size + 1),) for table in tables]
+    return (letters, starts + (start,), tuple(grown), ends + (end,))
+
+
+def with_room_never_come_to(kind, machine):
+    x = other_than_nought(kind)[0]
+    return with_room(machine, nought(kind), nought(kind), x, x)
+
+
+def with_room_that_tells_nothing(kind, machine):
+    x = other_than_nought(kind)[-1]
+    return with_room(machine, x, x, nought(kind), nought(kind))
+
+
+def disguised(kind, machine, seed=1):
+    # Rooms added, mixed and put in another order: each word weighs what it did.
+    source = numbers(seed)
+    told = with_room_that_tells_nothing(kind, with_room_never_come_to(kind, machine))
+    size = len(told[1])
+    choice = other_than_nought(kind)
+    for time in range(size):
+        room = next(source) % size
+        other = (room + 1 + next(source) % (size - 1)) % size
+        told = mixed(kind, told, room, other, choice[next(source) % len(choice)])
+    return put_in_order(told, sorted(range(size), key=lambda room: (room * 3 + seed) % size))
+
+
+def shuffled(kind, machine, seed=1):
+    # As many rooms, but others.
+    source = numbers(seed)
+    size = len(machine[1])
+    choice = other_than_nought(kind)
+    for time in range(2 * size if size > 1 else 0):
+        room = next(source) % size
+        other = (room + 1 + next(source) % (size - 1)) % size
+        machine = mixed(kind, machine, room, other, choice[next(source) % len(choice)])
+    return machine
+
+
+def chain(kind, letters, ends):
+    # By the first letter alone from room to room; a word of k such letters weighs the end there.
+    size = len(ends)
+    rows = [tuple([one(kind) if r == q + 1 else nought(kind) for r in range(size)]) for q in range(size)]
+    return (letters, corner_to_corner(kind, size)[0], stepping(kind, letters, rows), tuple(ends))
+
+
+def ring(kind, letters, ends):
+    # The same, but from the last room back to the first.
+    size = len(ends)
+    rows = [tuple([one(kind) if r == (q + 1) % size else nought(kind) for r in range(size)]) for q in range(size)]
+    return (letters, corner_to_corner(kind, size)[0], stepping(kind, letters, rows), tuple(ends))
+
+
+def stepping(kind, letters, rows):
+    none = ((nought(kind),) * len(rows),) * len(rows)
+    return (tuple(rows),) + (none,) * (len(letters) - 1)
+
+
+def without_rooms(letters):
+    return (letters, (), ((),) * len(letters), ())
+
+
+def field_machines(kind):
+    told = [without_rooms("a"), without_rooms("ba")]
+    for letters, most in (("a", 6), ("b", 3), ("ab", 4), ("ba", 4), ("cab", 3), ("bca", 3)):
+        for size in range(1, most + 1):
+            told.append(drawn(kind, letters, size, 3 * size + 1))
+            told.append(thinned(kind, letters, size, 5 * size + 2))
+    for letters, size in (("a", 3), ("ba", 2), ("cab", 2)):
+        machine = drawn(kind, letters, size, 11)
+        empty = (nought(kind),) * size
+        told.append(filled(kind, letters, size, nought(kind)))
+        told.append((letters, empty) + machine[2:])
+        told.append(machine[:3] + (empty,))
+        told.append(with_room_never_come_to(kind, machine))
+        told.append(with_room_that_tells_nothing(kind, machine))
+    told.append(disguised(kind, drawn(kind, "ba", 2, 4), 3))
+    told.append(disguised(kind, drawn(kind, "c", 2, 4), 5))
+    told.append(chain(kind, "ba", [nought(kind)] * 3 + [one(kind)]))
+    told.append(ring(kind, "a", [one(kind)] + [nought(kind)] * 4))
+    return told
+
+
+def all_lists(thing):
+    # Each list within, itself first, as often as it is met.
+    told = [thing] if isinstance(thing, list) else []
+    if isinstance(thing, (list, tuple)):
+        for piece in thing:
+            told.extend(all_lists(piece))
+    return told
+
+
+def own(test, told, again):
+    # Each list is met once, and none is one of what is told when it is asked for again.
+    lists = all_lists(told) + all_lists(again)
+    test.assertEqual(len({id(one) for one in lists}), len(lists))

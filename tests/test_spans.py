@@ -2,20 +2,12 @@ import copy
 import itertools
 import unittest
 
-from reckoned import drawn_table, fields, multiplied, nought, numbers, one, picking, product, same, total
+from reckoned import (
+    corner_to_corner, drawn_table, fields, multiplied, nought, numbers, one, picking, put_together, same,
+)
 from weighwalk.errors import WrongKind
 from weighwalk.kinds import Fractions, Residues
 from weighwalk.spans import free, inverse_of, parts, rank
-
-
-def put_together(kind, weights, rows, width):
-    return tuple([
-        total(kind, [product(kind, [x, row[place]]) for x, row in zip(weights, rows)]) for place in range(width)
-    ])
-
-
-def corner_to_corner(kind, size):
-    return tuple([tuple([one(kind) if r == q else nought(kind) for r in range(size)]) for q in range(size)])
 
 
 def whole(rows):

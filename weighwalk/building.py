@@ -27,12 +27,16 @@ def beside(kind, first, second, step):
     return tuple(upper + lower)
 
 
-def added(kind, one, other):
-    need_same_letters(one, other)
-    need_few_rooms(rooms(one) + rooms(other))
+def put_beside(kind, one, other):
     no_step = [noughts(kind, rooms(other)) for room in range(rooms(one))]
     tables = [beside(kind, first, second, no_step) for first, second in zip(one[2], other[2])]
     return (one[0], one[1] + other[1], tuple(tables), one[3] + other[3])
+
+
+def added(kind, one, other):
+    need_same_letters(one, other)
+    need_few_rooms(rooms(one) + rooms(other))
+    return put_beside(kind, one, other)
 
 
 def outer(kind, column, row):
@@ -74,10 +78,14 @@ def crossed(kind, one, other):
     return (one[0], start, tuple(tables), cross_row(kind, one[3], other[3]))
 
 
-def turned(kind, machine):
-    need_few_rooms(rooms(machine))
+def mirrored(machine):
     tables = [columns_of(table) for table in machine[2]]
     return (machine[0], machine[3], tuple(tables), machine[1])
+
+
+def turned(kind, machine):
+    need_few_rooms(rooms(machine))
+    return mirrored(machine)
 
 
 def closed_table(kind, machine, table):

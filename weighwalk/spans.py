@@ -30,19 +30,45 @@ def cleared(kind, kept, row):
     return rest
 
 
+def keep(kind, kept, row, width):
+    # Beside as many kept rows as there are places, any row is a sum of them.
+    if len(kept) == width:
+        return False
+    rest = cleared(kind, kept, row)
+    place = leading(kind, rest, width)
+    if place is None:
+        return False
+    kept.append((place, times_row(kind, kind.inverse(rest[place]), rest)))
+    return True
+
+
 def kept_rows(kind, rows, width):
     kept = []
     for row in rows:
-        rest = cleared(kind, kept, row)
-        place = leading(kind, rest, width)
-        if place is not None:
-            kept.append((place, times_row(kind, kind.inverse(rest[place]), rest)))
+        keep(kind, kept, row, width)
     return kept
+
+
+def width_of(rows):
+    return len(rows[0]) if len(rows) > 0 else 0
+
+
+def echelon(kind, rows):
+    # Each of these rows has nought at the leading places of all the others: so a sum of them
+    # has, at each leading place, the weight by which that row is in it.
+    told = []
+    for place, row in reversed(kept_rows(kind, rows, width_of(rows))):
+        told.append((place, cleared(kind, told, row)))
+    return sorted(told, key=lambda pair: pair[0])
 
 
 def marked(kind, rows):
     # Behind each row stands of which rows it is the sum: so far, of itself alone.
     return [row + unit(kind, len(rows), place) for place, row in enumerate(rows)]
+
+
+def kept_marked(kind, rows):
+    return kept_rows(kind, marked(kind, rows), width_of(rows))
 
 
 def parts_by(kind, kept, count, row):
@@ -55,15 +81,12 @@ def parts_by(kind, kept, count, row):
 
 def parts(kind, rows, row):
     need_field(kind)
-    kept = kept_rows(kind, marked(kind, rows), len(row))
-    return parts_by(kind, kept, len(rows), row)
+    return parts_by(kind, kept_marked(kind, rows), len(rows), row)
 
 
 def rank(kind, rows):
     need_field(kind)
-    if len(rows) == 0:
-        return 0
-    return len(kept_rows(kind, rows, len(rows[0])))
+    return len(kept_rows(kind, rows, width_of(rows)))
 
 
 def free(kind, rows):
@@ -73,7 +96,7 @@ def free(kind, rows):
 def inverse_of(kind, table):
     need_field(kind)
     size = len(table)
-    kept = kept_rows(kind, marked(kind, table), size)
+    kept = kept_marked(kind, table)
     if len(kept) < size:
         return None
     return tuple([tuple(parts_by(kind, kept, size, unit(kind, size, place))) for place in range(size)])
