@@ -374,3 +374,114 @@ def own(test, told, again):
     # Each list is met once, and none is one of what is told when it is asked for again.
     lists = all_lists(told) + all_lists(again)
     test.assertEqual(len({id(one) for one in lists}), len(lists))
+
+
+def cuts(word):
+    # All ways to cut a word that isn't empty into pieces that aren't.
+    told = []
+    for count in range(len(word)):
+        for places in itertools.combinations(range(1, len(word)), count):
+            bounds = (0,) + places + (len(word),)
+            told.append([word[i:j] for i, j in zip(bounds, bounds[1:])])
+    return told
+
+
+def parts_of(saying):
+    # Itself first, each part ahead of those within it.
+    told = [saying]
+    for piece in saying[1:]:
+        if isinstance(piece, tuple) and isinstance(piece[0], str):
+            told.extend(parts_of(piece))
+    return told
+
+
+def height(saying):
+    return 1 + max([height(part) for part in parts_of(saying)[1:]], default=0)
+
+
+def said(kind, saying, word):
+    # What a word weighs by a saying, by all cuts and pieces; of its stars it is not asked whether they may be.
+    form = saying[0]
+    if form == "nil":
+        return nought(kind)
+    if form == "word":
+        return one(kind) if word == saying[1] else nought(kind)
+    if form == "times":
+        return product(kind, [saying[1], said(kind, saying[2], word)])
+    if form == "back":
+        return said(kind, saying[1], word[::-1])
+    if form == "star":
+        pieces = cuts(word) if word else [[]]
+        return total(kind, [product(kind, [said(kind, saying[1], piece) for piece in cut]) for cut in pieces])
+    if form == "then":
+        bounds = [(word[:place], word[place:]) for place in range(len(word) + 1)]
+    else:
+        bounds = [(word, word)]
+    pairs = [[said(kind, saying[1], first), said(kind, saying[2], second)] for first, second in bounds]
+    if form == "sum":
+        return total(kind, pairs[0])
+    return total(kind, [product(kind, pair) for pair in pairs])
+
+
+def closable(kind, saying):
+    stars = [part for part in parts_of(saying) if part[0] == "star"]
+    return all([said(kind, star[1], "") == nought(kind) for star in stars])
+
+
+def drawn_saying(kind, letters, source, high):
+    # At most so high; stars and sums the more often, since most else weighs nearly all words nought.
+    forms = ("word", "nil") if high == 1 else (
+        "sum", "star", "then", "times", "back", "both", "word", "sum", "star", "then", "times", "star", "sum"
+    )
+    form = forms[next(source) % (len(forms) if high > 1 or next(source) % 5 == 0 else 1)]
+    if form == "nil":
+        return ("nil",)
+    if form == "word":
+        return ("word", "".join([letters[next(source) % len(letters)] for _ in range(next(source) % 3)]))
+    if form == "times":
+        choice = some_weights(kind)
+        x = choice[next(source) % len(choice)]
+        return ("times", x, drawn_saying(kind, letters, source, high - 1))
+    if form in ("back", "star"):
+        return (form, drawn_saying(kind, letters, source, high - 1))
+    first = drawn_saying(kind, letters, source, high - 1)
+    return (form, first, drawn_saying(kind, letters, source, high - 1))
+
+
+def written(kind, x):
+    if isinstance(kind, Fractions):
+        return str(Fraction(x[0], x[1]))
+    if isinstance(kind, Costs):
+        return "none" if x is None else str(x)
+    if isinstance(kind, Truths):
+        return "yes" if x else "no"
+    return str(x)
+
+
+def written_saying(kind, saying):
+    if saying[0] == "nil":
+        return "nil"
+    if saying[0] == "word":
+        return "word " + (saying[1] or "-")
+    if saying[0] == "times":
+        return "times " + written(kind, saying[1]) + " " + written_saying(kind, saying[2])
+    return " ".join([saying[0]] + [written_saying(kind, part) for part in saying[1:]])
+
+
+def written_machine(kind, machine):
+    def row(weights):
+        return " ".join([written(kind, x) for x in weights]) or "-"
+
+    tables = [", ".join([row(weights) for weights in table]) or "-" for table in machine[2]]
+    return " | ".join([machine[0], row(machine[1])] + tables + [row(machine[3])])
+
+
+def changed_texts(text):
+    # A sign left out, told twice, or another one in its place or ahead of it.
+    told = []
+    for place in range(len(text)):
+        told.append(text[:place] + text[place + 1:])
+        for sign in (text[place], " ", "-", "a", "c", "A", "0", "1", "/", "\n", "\t", "|", ",", "w", "\u00a0"):
+            told.append(text[:place] + sign + text[place:])
+            told.append(text[:place] + sign + text[place + 1:])
+    return told + [text + sign for sign in (" ", "\n", "a", " a", " nil", "-", "0")]

@@ -1,8 +1,7 @@
-import itertools
 import unittest
 
 from reckoned import (
-    NO_TEXTS, NeverCompared, all_words, drawn, filled, kinds, nought, one, other_than_nought, product, same,
+    NO_TEXTS, NeverCompared, all_words, cuts, drawn, filled, kinds, nought, one, other_than_nought, product, same,
     some_weights, total, walked,
 )
 from weighwalk.building import added, closed, crossed, joined, scaled, single, turned
@@ -41,15 +40,6 @@ def closable(kind):
         start = (x,) * half + (nought(kind),) * (size - half)
         ends = (nought(kind),) * half + (x,) * (size - half)
         told.append((letters, start, machine[2], ends))
-    return told
-
-
-def cuts(word):
-    told = []
-    for count in range(len(word)):
-        for places in itertools.combinations(range(1, len(word)), count):
-            bounds = (0,) + places + (len(word),)
-            told.append([word[i:j] for i, j in zip(bounds, bounds[1:])])
     return told
 
 

@@ -31,7 +31,7 @@ WORDS_OUT = (
 )
 
 WALKED = ("zip", "enumerate", "reversed", "range")
-WALKED_BY = WALKED + ("list", "tuple", "dict", "sorted", "sum", "any", "all", "min", "max")
+WALKED_BY = ("list", "tuple", "dict", "sorted", "sum", "any", "all", "enumerate", "zip", "min", "max")
 
 
 def sources():

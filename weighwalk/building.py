@@ -97,9 +97,13 @@ def closed_table(kind, machine, table):
     return tuple([first] + others)
 
 
-def closed(kind, machine):
-    if weight(kind, machine, "") != kind.nought():
+def need_closable(kind, empty_weight):
+    if empty_weight != kind.nought():
         raise NoClosure("the empty word weighs nought in what is closed")
+
+
+def closed(kind, machine):
+    need_closable(kind, weight(kind, machine, ""))
     size = rooms(machine) + 1
     need_few_rooms(size)
     tables = [closed_table(kind, machine, table) for table in machine[2]]

@@ -28,7 +28,7 @@ def read_whole(text):
 
 def need_text(text):
     if not isinstance(text, str):
-        raise NoText("a weight is read from a text")
+        raise NoText("only a text is read")
 
 
 class Kind:
